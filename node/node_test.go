@@ -991,6 +991,9 @@ func TestReadOrder(t *testing.T) {
 		{"no name, and a wrong key", join(one, list(nil), eight(1), list(nil)), api.ErrForm},
 		{"a long name, and a wrong key", join(one, list(text(17)), eight(1), list(nil)), api.ErrLong},
 		{"a long name, and a long parent", join(one, list(text(17)), eight(9), list(text(33))), api.ErrLong},
+		{"a leaf's wrong key, cut", join(one, list([]byte("a")), eight(1)), api.ErrShort},
+		{"a leaf's wrong key, and a parent that is cut", join(one, list([]byte("a")), eight(0), list(text(32))[:32]), api.ErrShort},
+		{"a leaf's wrong key, and a long parent", join(one, list([]byte("a")), eight(0), list(text(33))), api.ErrLong},
 		{"a wrong key, cut", join(two, eight(1)), api.ErrShort},
 		{"a wrong key, and a parent that is cut", join(two, eight(0), list(text(32))[:32]), api.ErrShort},
 		{"a wrong key, and a long parent", join(two, eight(0), list(text(33)), list(nil)), api.ErrLong},
@@ -1358,9 +1361,13 @@ func checkApart(t *testing.T, what string, n api.Node) {
 // argument.
 func TestListsAreApart(t *testing.T) {
 	b := roomy(text(40))
-	for _, n := range []api.Node{
-		{Kind: 1, Name: b[:16], Parent: b[:32]}, {Name: b, Parent: b}, {Name: b[:10], Parent: b[10:]}, {Name: b[8:], Parent: b[:8]},
-	} {
+	nodes := []api.Node{{Kind: 1, Name: b[:16], Parent: b[:32]}, {Name: b, Parent: b}, {Name: b[:10], Parent: b[10:]}, {Name: b[8:], Parent: b[:8]}}
+	for i := range 10 { // a copy of few octets may have room for more
+		for k := range 10 {
+			nodes = append(nodes, api.Node{Name: b[:i], Parent: b[:k]})
+		}
+	}
+	for _, n := range nodes {
 		c := node.Clone(n)
 		if !alike(c, n) {
 			t.Errorf("%s: cloned %s", short(n), short(c))
